@@ -10,7 +10,6 @@ import (
 	"testing"
 
 	"wainload/api"
-	"wainload/huff"
 	"wainload/limit"
 )
 
@@ -536,14 +535,6 @@ func TestTheOrderOfSymbolsIsNoMatter(t *testing.T) { // P5.1, P5.3
 		slices.SortFunc(often, func(a, b int) int { return cmp.Compare(b, a) })
 		if d := cost(often, lengths(t, often, most)); d != c {
 			t.Fatalf("%v, %d: %d, not %d", often, most, d, c)
-		}
-	}
-}
-
-func TestCodesAreMadeOfThem(t *testing.T) { // P5.1
-	for _, often := range manyOften(57, mostSymbols) {
-		if _, e := huff.Make(lengths(t, often, api.MaxBits), true); e != api.OK {
-			t.Errorf("%v: %d", often, e)
 		}
 	}
 }
