@@ -131,14 +131,14 @@ func (p part) small() part {
 	return p.both(func(h *head) { h.method, h.inside = 8, len(p.body) })
 }
 
+// flater is kept, as a new one is costly.
+var flater, _ = flate.NewWriter(nil, flate.BestCompression)
+
 func small(s string) string {
 	var b bytes.Buffer
-	w, err := flate.NewWriter(&b, 9)
-	if err != nil {
-		panic(err)
-	}
-	w.Write([]byte(s))
-	w.Close()
+	flater.Reset(&b)
+	flater.Write([]byte(s))
+	flater.Close()
 	return b.String()
 }
 
